@@ -1,0 +1,1 @@
+"""Speciesmill: kinds of structures, counted, listed and drawn."""
