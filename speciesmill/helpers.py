@@ -1,5 +1,7 @@
 """Small questions about values and numbers that several parts ask."""
 
+from math import gcd
+
 
 def is_whole(value):
     """Whether a value is an integer; True and False are none."""
@@ -17,3 +19,28 @@ def are_bounds(word, least, most):
 def more_than_one(most):
     """Whether a greatest number of members, or None for no bound, allows two members."""
     return most is None or most > 1
+
+
+def divisors(number):
+    """The divisors of a number from 1 on, in ascending order."""
+    return [part for part in range(1, number + 1) if number % part == 0]
+
+
+def totient(number):
+    """How many integers from 1 to a number have no divisor but 1 in common with it."""
+    return len([part for part in range(1, number + 1) if gcd(part, number) == 1])
+
+
+def moebius(number):
+    """0 if the square of a prime divides a number, else 1 or -1 for an even or odd number of primes."""
+    sign = 1
+    rest = number
+    prime = 2
+    while rest > 1:
+        if rest % prime == 0:
+            rest = rest // prime
+            sign = -sign
+            if rest % prime == 0:
+                return 0
+        prime += 1
+    return sign

@@ -9,6 +9,21 @@ FUNCTIONS = {
         "is_expression": "value", "depth": "expression", "used": "expression", "known": "name",
     },
     "founded": {"emptyable": "spec", "order": "spec", "fault": "spec"},
+    "spectext": {"spec_text": "spec", "spec_of": "text"},
+    "structure": {
+        "size_of": "structure", "labels_of": "structure", "key_of": "structure", "is_standard": "structure",
+        "is_structure": "spec expression value labelled", "one_form": "structure",
+    },
+    "series": {
+        "pairs": "first second labelled", "rows": "counts least most labelled", "sets": "counts least most labelled",
+        "rings": "counts least most labelled", "by_members": "counts word members labelled",
+        "sets_undone": "counts labelled",
+    },
+    "counts": {
+        "labelled_counts": "spec name most", "unlabelled_counts": "spec name most",
+        "counts_of": "spec expression most labelled", "rigid_counts": "spec name most",
+        "member_counts": "spec name most labelled",
+    },
 }
 METHODS = {"__init__": "self equations", "names": "self", "expression": "self name"}
 
