@@ -1,7 +1,7 @@
 """Expressions, and specifications: systems of equations of names and expressions."""
 
 from speciesmill.errors import BadSpec, NoSuchName
-from speciesmill.helpers import are_bounds, is_whole
+from speciesmill.helpers import are_bounds
 
 CAPITALS = "ABCDEFGHIJKLMNOPQRSTUVWXYZ"
 NAME_CHARACTERS = "ABCDEFGHIJKLMNOPQRSTUVWXYZabcdefghijklmnopqrstuvwxyz0123456789"

@@ -90,6 +90,20 @@ class Members:
             total += ways
         return total // members
 
+    def rests(self, placed, least, size):
+        """In how many ways further members of a size follow so many, so that the bounds allow them all.
+
+        They are a row, or a set if these are sets. The size is one that was told, and members are not empty.
+        """
+        last = size if self.most is None else min(size, self.most - placed)
+        total = 0
+        for members in range(max(0, least - placed), last + 1):
+            ways = self.table[members][size]
+            if self.word == "set" and self.mode == LABELLED:
+                ways = ways // factorial(members)
+            total += ways
+        return total
+
     def exactly(self, members, size):
         """How many have exactly so many members and a size that was told by `grow`.
 

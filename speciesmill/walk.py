@@ -58,6 +58,12 @@ def folded(structure, made):
     return done[0]
 
 
+def with_atoms(structure, atoms):
+    """The structure with other atoms, from a list, in the places in which its atoms stand in the tuple."""
+    left = [atom for atom in reversed(atoms)]
+    return folded(structure, lambda part, parts: left.pop() if part[0] == "atom" else with_parts(part, parts))
+
+
 def flat(nested):
     """The numbers in nested tuples as one list. Two such lists compare as the nested tuples do."""
     row = []

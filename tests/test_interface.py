@@ -24,6 +24,16 @@ FUNCTIONS = {
         "counts_of": "spec expression most labelled", "rigid_counts": "spec name most",
         "member_counts": "spec name most labelled",
     },
+    "erase": {
+        "renamed": "structure names", "on_labels": "structure labels", "standard": "structure", "erased": "structure",
+        "labelled_from": "structure",
+    },
+    "symmetry": {"symmetries": "structure", "labellings": "structure", "all_labellings": "structure"},
+    "listing": {
+        "labelled_list": "spec name size", "unlabelled_list": "spec name size", "labelled_on": "spec expression labels",
+        "unlabelled_of": "spec expression size", "next_one": "spec name structure",
+    },
+    "subsets": {"subset_at": "size members index", "subset_index": "size subset"},
 }
 METHODS = {"__init__": "self equations", "names": "self", "expression": "self name"}
 
