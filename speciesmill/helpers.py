@@ -21,6 +21,22 @@ def more_than_one(most):
     return most is None or most > 1
 
 
+def greatest(low, high, fits):
+    """The greatest number from `low` to `high` that fits, if `low` does, and each one below another that does."""
+    while low < high:
+        middle = (low + high + 1) // 2
+        if fits(middle):
+            low = middle
+        else:
+            high = middle - 1
+    return low
+
+
+def turns_of(row):
+    """A tuple read from each of its members around."""
+    return [row[at:] + row[:at] for at in range(len(row))]
+
+
 def divisors(number):
     """The divisors of a number from 1 on, in ascending order."""
     return [part for part in range(1, number + 1) if number % part == 0]

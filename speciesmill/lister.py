@@ -1,7 +1,8 @@
 """All structures of an expression, made from the lists of their parts."""
 
+from speciesmill.helpers import more_than_one
 from speciesmill.members import Bags
-from speciesmill.subsets import shares
+from speciesmill.sharing import sharing_of
 from speciesmill.unlabelled import RingRows, SetRows
 from speciesmill.worklist import Worklist
 
@@ -18,24 +19,17 @@ class Lister(Worklist):
         super().__init__()
         self.tally = tally
         self.labelled = labelled
+        self.sharing = sharing_of(labelled)
 
     def structures(self, part, labels):
         """The list of the structures of a part, in order; there may be none."""
-        if part.counts[self.size_of(labels)] == 0:
+        if part.counts[self.sharing.size_of(labels)] == 0:
             return []
         return self.told((part, None, labels))
 
-    def size_of(self, labels):
-        """The number of atoms with these labels, which for unlabelled ones are their number."""
-        return len(labels) if self.labelled else labels
-
-    def shared(self, labels, many, held):
-        """All ways to give so many labels to a first part, as `shares` does."""
-        return shares(labels, many, held) if self.labelled else [(many, labels - many)]
-
     def asked(self, part, labels):
         """As structures, while another list is made."""
-        if part.counts[self.size_of(labels)] == 0:
+        if part.counts[self.sharing.size_of(labels)] == 0:
             return []
         return self.ask((part, None, labels))
 
@@ -61,11 +55,11 @@ class Lister(Worklist):
     def pairs(self, part, labels):
         """The structures of an "and", in order."""
         first, second = part.inner
-        size = self.size_of(labels)
+        size = self.sharing.size_of(labels)
         found = []
         for many in range(size + 1):
             if first.counts[many] > 0 and second.counts[size - many] > 0:
-                for one, other in self.shared(labels, many, 0):
+                for one, other in self.sharing.all_shares(labels, many, 0):
                     left = self.asked(first, one)
                     right = self.asked(second, other)
                     found.extend([("and", a, b) for a in left for b in right])
@@ -74,8 +68,8 @@ class Lister(Worklist):
     def member_rows(self, part, labels):
         """The tuples of members of all rows, sets or rings of a part, in order."""
         word, _, least, most = part.formula
-        size = self.size_of(labels)
-        if most is not None and most <= 1:
+        size = self.sharing.size_of(labels)
+        if not more_than_one(most):
             empty = [()] if least == 0 and size == 0 else []
             return empty + ([(one,) for one in self.asked(part.inner[0], labels)] if most == 1 else [])
         if size == 0 or word == "row" or self.labelled:
@@ -85,7 +79,7 @@ class Lister(Worklist):
     def rows(self, part, placed, labels):
         """The tuples of members that may follow so many in a row, or in a labelled set or ring."""
         word, _, least, most = part.formula
-        size = self.size_of(labels)
+        size = self.sharing.size_of(labels)
         if size == 0:
             return [()]
         inner = part.inner[0]
@@ -96,7 +90,7 @@ class Lister(Worklist):
         found = []
         for many in range(1, size + 1):
             if inner.counts[many] > 0 and part.members.rests(next_placed, least, size - many) > 0:
-                for one, other in self.shared(labels, many, held):
+                for one, other in self.sharing.all_shares(labels, many, held):
                     firsts = self.asked(inner, one)
                     tails = self.ask((part, next_placed, other))
                     found.extend([(a, *tail) for a in firsts for tail in tails])

@@ -4,7 +4,7 @@ from itertools import combinations
 from math import comb
 
 from speciesmill.errors import BadIndex
-from speciesmill.helpers import is_whole
+from speciesmill.helpers import greatest, is_whole
 
 
 def subset_at(size, members, index):
@@ -47,15 +47,7 @@ def _before(size, last, members, number):
 
 def _number_at(size, last, members, index):
     """The first number of the tuple with an index among those of so many of the numbers above `last`."""
-    low = last + 1
-    high = size
-    while low < high:
-        middle = (low + high + 1) // 2
-        if _before(size, last, members, middle) <= index:
-            low = middle
-        else:
-            high = middle - 1
-    return low
+    return greatest(last + 1, size, lambda number: _before(size, last, members, number) <= index)
 
 
 def choices(labels, many):

@@ -3,6 +3,7 @@
 from math import factorial
 
 from speciesmill.errors import TooGreat
+from speciesmill.helpers import turns_of
 from speciesmill.spec import MEMBER_WORDS
 from speciesmill.structure import key_of, size_of
 from speciesmill.subsets import choices, shares
@@ -58,11 +59,6 @@ class Sorts:
         elif word == "ring":
             kept = kept * turns_of(inner).count(inner)
         return Sort(word, inner, size, kept)
-
-
-def turns_of(row):
-    """A tuple read from each of its members around."""
-    return [row[at:] + row[:at] for at in range(len(row))]
 
 
 def symmetries(structure):

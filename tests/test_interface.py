@@ -33,6 +33,13 @@ FUNCTIONS = {
         "labelled_list": "spec name size", "unlabelled_list": "spec name size", "labelled_on": "spec expression labels",
         "unlabelled_of": "spec expression size", "next_one": "spec name structure",
     },
+    "members": {"sets_from": "counts members size first"},
+    "turns": {"turns_from": "counts row size", "rings_before": "counts row size"},
+    "rank": {
+        "structure_at": "spec name size index labelled", "window": "spec name size first many labelled",
+        "index_of": "spec name structure", "labelled_at": "spec expression labels index",
+        "unlabelled_at": "spec expression size index", "index_in": "spec expression structure",
+    },
     "subsets": {"subset_at": "size members index", "subset_index": "size subset"},
 }
 METHODS = {"__init__": "self equations", "names": "self", "expression": "self name"}
