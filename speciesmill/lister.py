@@ -72,7 +72,7 @@ class Lister(Worklist):
         if not more_than_one(most):
             empty = [()] if least == 0 and size == 0 else []
             return empty + ([(one,) for one in self.asked(part.inner[0], labels)] if most == 1 else [])
-        if size == 0 or word == "row" or self.labelled:
+        if word == "row" or self.labelled:
             return self.rows(part, 0, labels)
         return self.unlabelled(part, size)
 
@@ -86,7 +86,7 @@ class Lister(Worklist):
         # The first member of a set, and of a ring, has the least label of all.
         held = 1 if word == "set" or (word == "ring" and placed == 0) else 0
         # Without an upper bound, all is alike from the least number on: the same lists serve again.
-        next_placed = placed + 1 if most is not None else min(placed + 1, max(least, 1))
+        next_placed = placed + 1 if most is not None else min(placed + 1, least)
         found = []
         for many in range(1, size + 1):
             if inner.counts[many] > 0 and part.members.rests(next_placed, least, size - many) > 0:
@@ -97,7 +97,7 @@ class Lister(Worklist):
         return found
 
     def unlabelled(self, part, size):
-        """The tuples of members of all unlabelled sets or rings of a part and a size from 1 on."""
+        """The tuples of members of all unlabelled sets or rings of a part and a size."""
         word, _, least, most = part.formula
         inner = part.inner[0]
         sizes = [at for at in range(1, size + 1) if part.members.rests(1, least, size - at) > 0]

@@ -28,13 +28,13 @@ def subset_index(size, subset):
     """The index of an ascending tuple among those of as many of the numbers from 1 to a size."""
     if not is_whole(size) or size < 0 or not isinstance(subset, tuple):
         raise BadIndex("this is not a size from 0 on and a tuple")
-    if any([not is_whole(number) or not 1 <= number <= size for number in subset]):
-        raise BadIndex("the members are not numbers from 1 to the size")
+    if any([not is_whole(number) or number > size for number in subset]):
+        raise BadIndex("the members are not numbers up to the size")
     index = 0
     last = 0
     for at, number in enumerate(subset):
         if number <= last:
-            raise BadIndex("the members do not ascend")
+            raise BadIndex("the members do not ascend from 1 on")
         index += _before(size, last, len(subset) - at, number)
         last = number
     return index

@@ -97,12 +97,8 @@ class Labellings:
 
     def made(self, sort, labels):
         """The list of a sort, if those of its parts are there."""
-        if sort.word == "one":
-            return [("one",)]
         if sort.word == "atom":
-            return [("atom", labels[0])]
-        if sort.word in ("left", "right"):
-            return [(sort.word, part) for part in self.lists[(sort.inner[0], labels)]]
+            return [("atom", *labels)]
         if sort.word not in MEMBER_WORDS:
             return [(sort.word, *parts) for parts in self.rows("row", [sort.inner], labels)]
         options = turns_of(sort.inner) if sort.word == "ring" else [sort.inner]

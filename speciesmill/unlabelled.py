@@ -12,7 +12,7 @@ class SetRows:
         self.sizes = {}
 
     def listed(self, size):
-        """The tuples of members of all sets of a size from 1 on, in order."""
+        """The tuples of members of all sets of a size, in order."""
         return self.listed_from(0, size, (1, 0))
 
     def listed_from(self, placed, size, place):
@@ -30,7 +30,7 @@ class SetRows:
     def next_sizes(self, placed, size, smallest):
         """The sizes, not below the smallest, that the next member may have so that others can follow.
 
-        If others can follow any member of a size, then others can follow each: it may come again itself.
+        If others can follow one member of a size, then others can follow each: it may come again itself.
         """
         key = (placed, size, smallest)
         if key not in self.sizes:
@@ -39,10 +39,8 @@ class SetRows:
         return self.sizes[key]
 
     def has_rest(self, placed, size, smallest):
-        """Whether members of the smallest size exist, and so many may be followed by others not smaller."""
+        """Whether members of a size in all, none of them below the smallest one, may follow so many."""
         most = None if self.most is None else self.most - placed
-        if self.bags.counts[smallest] == 0:
-            return False
         return self.bags.within(self.least - placed, most, size, (smallest, 0)) > 0
 
 
@@ -83,10 +81,7 @@ class RingRows:
         """The sizes that the first one of so many members may have, if none is below the smallest one."""
         key = (many, size, smallest)
         if key not in self.sizes:
-            fitting = [at for at in range(smallest, size + 1) if self.has_rest(many - 1, size - at, at, smallest)]
+            place = (smallest, 0)
+            fitting = [at for at in range(smallest, size + 1) if self.bags.exactly(many - 1, size - at, place) > 0]
             self.sizes[key] = fitting
         return self.sizes[key]
-
-    def has_rest(self, many, size, at, smallest):
-        """Whether there are members of a size, and so many others, not below the smallest size, of another."""
-        return self.bags.counts[at] > 0 and self.bags.exactly(many, size, (smallest, 0)) > 0

@@ -213,6 +213,10 @@ class Errors(unittest.TestCase):
         words = ("row", TWO, 0, None)
         for expression in (("and", words, ("none",)), ("set", ("or", words, ATOM), 0, 0), ("and", ("set", ATOM, 20, 20), words)):
             self.assertEqual(len(unlabelled_of(PLAIN, expression, 20)), 1 if expression[2] == words else 0)
+        # Of two members of the size 21 none has the size 20, of which there are far too many.
+        member = ("or", ("row", ATOM, 9, 9), ("or", ("row", ATOM, 12, 12), ("row", TWO, 20, 20)))
+        for word in ("row", "set", "ring"):
+            self.assertEqual(len(unlabelled_of(PLAIN, (word, member, 2, 2), 21)), 2 if word == "row" else 1)
         rare = ("or", ("and", ATOM, ("and", ATOM, words)), ("and", ATOM, ATOM))
         self.assertEqual(unlabelled_of(PLAIN, ("set", ("row", rare, 9, 9), 1, None), 18)[0][0], "set")
 

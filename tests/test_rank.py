@@ -75,6 +75,16 @@ class AgainstLists(unittest.TestCase):
                     self.assertEqual(unlabelled_at(PLAIN, expression, size, index), structure)
                     self.assertEqual(index_in(PLAIN, expression, structure), index)
 
+    def test_members_of_few_sizes(self):
+        for sizes in ((1, 3), (2, 3), (2, 5), (3, 4)):
+            member = ("or", ("row", TWO, sizes[0], sizes[0]), ("row", ATOM, sizes[1], sizes[1]))
+            for word in ("row", "set", "ring"):
+                for size in range(11):
+                    found = unlabelled_of(PLAIN, (word, member, 1, None), size)
+                    for index in range(0, len(found), len(found) // 30 + 1):
+                        self.assertEqual(unlabelled_at(PLAIN, (word, member, 1, None), size, index), found[index])
+                        self.assertEqual(index_in(PLAIN, (word, member, 1, None), found[index]), index)
+
     def same(self, spec, most, most_unlabelled):
         for name in spec.names():
             for size in range(most_unlabelled + 1):

@@ -69,7 +69,8 @@ class Small(unittest.TestCase):
         counts = [0, 2, 1, 0, 0, 0, 0, 0, 0]
         rows = list(itertools.product((a, b, c), repeat=6))
         for row in ((a, b, a, b, a, b), (a, a, b, a, a, b), (a, a, b, a, a, a), (a, b, a, b, a, c), (a, a, a, a, a, a), (a, b, a, a, b, a),
-                    (c, c, c, c, c, c), (b, a, b, a, b, a), (c, a, c, a, b, a), (b, b, a, b, b, a), (a, a, b, a, a, c), (a, c, a, b, a, c)):
+                    (c, c, c, c, c, c), (b, a, b, a, b, a), (c, a, c, a, b, a), (b, b, a, b, b, a), (a, a, b, a, a, c),
+                    (a, c, a, b, a, c), (b, a, b, b, b, b), (c, a, c, c, c, c)):
             self.same(counts, row, rows)
 
     def test_one_place(self):
