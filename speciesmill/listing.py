@@ -59,7 +59,7 @@ def _listed(spec, expression, labels, size, labelled):
 
 def next_one(spec, name, structure):
     """The structure that stands behind a standard or unlabelled one in its list, or None if it is the last one."""
-    check_names(spec, [name])
+    # What the lists raise for the specification and the name is_structure raises as well.
     labelled = is_structure(spec, ("name", name), structure, True)
     if labelled and not is_standard(structure):
         raise BadStructure("the labels are not 1, 2 and so on")

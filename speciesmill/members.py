@@ -26,14 +26,15 @@ class Bags:
     """How many sets there are of members with given counts. There are no members of size 0.
 
     `tables[s][m][n]` is the number of sets of m members and the size n, in all, whose members have the size s or
-    greater ones. Each table ends with the greatest m for which there is room.
+    greater ones. Each table ends with the greatest m for which there is room. Only those for s from 2 on are
+    filled: whatever is asked from a place of the size s on comes from the table for s + 1.
     """
 
     def __init__(self, counts):
         self.counts = counts
         empty = [1] + [0] * (len(counts) - 1)
         self.tables = [[empty] for _ in range(len(counts) + 1)]
-        for least in range(len(counts) - 1, 0, -1):
+        for least in range(len(counts) - 1, 1, -1):
             for members in range(1, (len(counts) - 1) // least + 1):
                 row = [self.with_allowed(least, counts[least], members, size) for size in range(len(counts))]
                 self.tables[least].append(row)

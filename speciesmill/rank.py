@@ -49,14 +49,19 @@ def unlabelled_at(spec, expression, size, index):
 
 def index_of(spec, name, structure):
     """The index of a structure of a name, among those on its labels or the unlabelled ones of its size."""
-    check_names(spec, [name])
-    return _index(spec, ("name", name), structure)
+    return index_in(spec, ("name", name), structure)
 
 
 def index_in(spec, expression, structure):
     """The index of a structure of an expression, among those on its labels or the unlabelled ones of its size."""
-    _check(spec, expression)
-    return _index(spec, expression, structure)
+    # What counts_of raises for the specification and the expression is_structure raises as well.
+    labelled = is_structure(spec, expression, structure, True)
+    if not labelled and not is_structure(spec, expression, structure, False):
+        raise BadStructure("this is not a structure of this kind")
+    size = size_of(structure)
+    if size > GREATEST_SIZE:
+        raise TooGreat(f"indexes are found for at most {GREATEST_SIZE} atoms")
+    return Ranker(spec, expression, size, labelled).index_of(structure)
 
 
 def _check(spec, expression):
@@ -75,14 +80,3 @@ def _at(ranker, labels, size, index):
     if not is_whole(index) or not 0 <= index < ranker.many(size):
         raise BadIndex("there are not so many structures")
     return ranker.structure_at(labels, index)
-
-
-def _index(spec, expression, structure):
-    """The index of a value that may be a structure of an expression."""
-    labelled = is_structure(spec, expression, structure, True)
-    if not labelled and not is_structure(spec, expression, structure, False):
-        raise BadStructure("this is not a structure of this kind")
-    size = size_of(structure)
-    if size > GREATEST_SIZE:
-        raise TooGreat(f"indexes are found for at most {GREATEST_SIZE} atoms")
-    return Ranker(spec, expression, size, labelled).index_of(structure)

@@ -1,6 +1,5 @@
 """Promises 4.1 to 4.6: lists of structures."""
 
-import math
 import unittest
 
 import brute
@@ -311,7 +310,7 @@ class TheExample(unittest.TestCase):
     def test_necklaces(self):
         necklaces = known("necklaces")
         self.assertEqual(len(unlabelled_list(necklaces, "N", 3)), 4)
-        self.assertEqual(len(labelled_list(necklaces, "N", 3)), 2 * math.factorial(3) + 4)
+        self.assertEqual(len(labelled_list(necklaces, "N", 3)), 16)
 
 
 if __name__ == "__main__":
