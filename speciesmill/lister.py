@@ -4,22 +4,25 @@ from speciesmill.helpers import more_than_one
 from speciesmill.members import Bags
 from speciesmill.sharing import sharing_of
 from speciesmill.unlabelled import RingRows, SetRows
-from speciesmill.worklist import Worklist
 
 
-class Lister(Worklist):
+class Lister:
     """The lists of the structures of parts, and of rows of members, whose counts are told.
 
     A list has as its key a part, a number of members, and the labels of its structures, or for unlabelled ones their
     size. The number is None for the structures of the part; else the list is that of the rows of members that may
     follow so many members. Only such lists are asked for of which each item stands in a structure that is wanted.
+
+    Structures may be nested deep. Therefore no list is made while another one is: it waits until all are there that
+    it is made from.
     """
 
     def __init__(self, tally, labelled):
-        super().__init__()
         self.tally = tally
         self.labelled = labelled
         self.sharing = sharing_of(labelled)
+        self.lists = {}
+        self.missing = []
 
     def structures(self, part, labels):
         """The list of the structures of a part, in order; there may be none."""
@@ -32,6 +35,29 @@ class Lister(Worklist):
         if part.counts[self.sharing.size_of(labels)] == 0:
             return []
         return self.ask((part, None, labels))
+
+    def told(self, key):
+        """The list with a key. Those that it is made from are made first."""
+        todo = [key]
+        while todo:
+            next_key = todo[-1]
+            if next_key in self.lists:
+                todo.pop()
+                continue
+            self.missing = []
+            made = self.made(next_key)
+            if self.missing:
+                todo.extend(self.missing)
+            else:
+                self.lists[next_key] = made
+        return self.lists[key]
+
+    def ask(self, key):
+        """The list with a key. If it is not there yet, it is missed, and what is made now will be made again."""
+        if key in self.lists:
+            return self.lists[key]
+        self.missing.append(key)
+        return []
 
     def made(self, key):
         """The list with a key, if there is a structure or row at all."""

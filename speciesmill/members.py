@@ -108,12 +108,6 @@ class BagRanks:
 
     def next_place(self, placed, size, last, left):
         """The greatest place, not before the last one, from which on so many sets at least are left."""
-        at = greatest(last[0], size, lambda found: self.following(placed, size, begin_of(found, last)) >= left)
-        _, low = begin_of(at, last)
+        at = greatest(last[0], size, lambda found: self.following(placed, size, (found, 0)) >= left)
         high = self.counts[at] - 1
-        return (at, greatest(low, high, lambda found: self.following(placed, size, (at, found)) >= left))
-
-
-def begin_of(size, last):
-    """The first place of a size that is not before another place."""
-    return last if size == last[0] else (size, 0)
+        return (at, greatest(0, high, lambda found: self.following(placed, size, (at, found)) >= left))

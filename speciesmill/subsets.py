@@ -52,7 +52,7 @@ def _number_at(size, last, members, index):
 
 def choices(labels, many):
     """All ascending tuples of so many of the labels of an ascending tuple, in order."""
-    return list(combinations(labels, many))
+    return list(combinations(list(labels), many))
 
 
 def shares(labels, many, held):

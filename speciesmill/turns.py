@@ -90,7 +90,7 @@ class Turns:
         rows = Members("row", None, counts, UNLABELLED)
         for _ in counts:
             rows.grow()
-        self.rows = rows.table
+        self.row_counts = rows.table
         self.before = {}
 
     def rows_from(self, row, size):
@@ -99,30 +99,37 @@ class Turns:
         A row that is read around ends in the state in which it began. Either no place in it is behind the least one
         that may be read then, or it consists of runs, each of which is some least places and a place behind.
         """
+        spare = size - len(row)
+        if spare < 0:
+            return 0
         reader = Reader(row)
-        runs = self.runs(reader, size)
-        chains = chains_of(runs, size)
+        runs = self.runs(reader, spare)
+        chains = chains_of(runs, spare)
         total = 0
         for length in range(1, len(row) + 1):
             # The row may begin with each place of its first run.
-            total += length * product_item(runs[length], chains[len(row) - length], size)
+            total += length * product_item(runs[length], chains[len(row) - length], spare)
         for state in range(len(row) + 1):
             if reader.after(state, len(row)) == (state, size):
                 total += 1
         return total
 
-    def runs(self, reader, size):
-        """For each number of places the counts of the runs of so many places, from the state 0, up to a size."""
-        runs = [[0] * (size + 1)]
+    def runs(self, reader, spare):
+        """For each number of places the counts of the runs of so many places, from the state 0.
+
+        Each place has the size 1 at least. Therefore it is told how many there are of each size beyond the number of
+        their places, up to as much as there is to spare.
+        """
+        runs = [[0] * (spare + 1)]
         state = 0
         skipped = 0
         for _ in reader.row:
             least, index = reader.places[state]
-            run = [0] * (size + 1)
-            for at in range(least, size - skipped + 1):
-                run[at + skipped] = self.counts[at] - (index + 1 if at == least else 0)
+            run = [0] * (spare + 1)
+            for beyond in range(least - 1, spare - skipped + 1):
+                run[beyond + skipped] = self.counts[beyond + 1] - (index + 1 if beyond + 1 == least else 0)
             runs.append(run)
-            skipped += least
+            skipped += least - 1
             state = reader.states[state]
         return runs
 
@@ -141,7 +148,7 @@ class Turns:
         begin = row[:len(row) // times]
         if size < len(begin):
             return 0
-        before = self.rows[len(begin)][size] - self.rows_from(begin, size)
+        before = self.row_counts[len(begin)][size] - self.rows_from(begin, size)
         turns = turns_of(begin)
         # A row of which no turn is before the begin may still have the begin as its least turn.
         if sum([at for at, _ in begin]) == size and begin * times < row and min(turns) == begin:
@@ -172,22 +179,16 @@ class Turns:
     def begun(self, begin, members, size):
         """The number of rings whose least turn comes before all rows that begin so."""
         least = min([at for at in range(len(self.counts)) if self.counts[at] > 0])
-        return self.rings_before((*begin, *([(least, 0)] * (members - len(begin)))), size)
+        first_places = [(least, 0)] * (members - len(begin))
+        return self.rings_before((*begin, *first_places), size)
 
 
-def chains_of(runs, size):
-    """For each number of places but the greatest the counts of the rows of runs, up to a size.
-
-    Places have sizes from 1 on. So rows that leave no room for the places to come are left out.
-    """
-    last = len(runs) - 1
-    chains = [[1] + [0] * size]
-    for many in range(1, last):
+def chains_of(runs, spare):
+    """For each number of places but the greatest the counts of the rows of runs, told as those of the runs are."""
+    chains = [[1] + [0] * spare]
+    for many in range(1, len(runs) - 1):
         parts = [(runs[length], chains[many - length]) for length in range(1, many + 1)]
-        chain = [0] * (size + 1)
-        for at in range(many, size - (last - many) + 1):
-            chain[at] = sum([product_item(run, rest, at) for run, rest in parts])
-        chains.append(chain)
+        chains.append([sum([product_item(run, rest, at) for run, rest in parts]) for at in range(spare + 1)])
     return chains
 
 

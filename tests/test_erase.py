@@ -4,26 +4,14 @@ import itertools
 import unittest
 
 import brute
+from samples import ATOM, EXAMPLE, ONE, a, tree
 from speciesmill.erase import erased, labelled_from, on_labels, renamed, standard
 from speciesmill.errors import BadLabels
 from speciesmill.spec import known
 from speciesmill.structure import is_standard, labels_of, size_of
 
-ONE, ATOM = ("one",), ("atom",)
 EMPTY = (ONE, ("row", ()), ("set", ()), ("left", ("set", (ONE,))), ("and", ONE, ("ring", (ONE,))))
 PLAIN = (ATOM, ("row", (ATOM, ATOM)), ("and", ONE, ATOM), ("left", ("set", (ATOM,))), ("ring", (ATOM,)))
-
-
-def a(label):
-    return ("atom", label)
-
-
-def tree(label, *branches):
-    """A tree of "rooted"; without a label if it is None."""
-    return ("and", ATOM if label is None else a(label), ("set", branches))
-
-
-EXAMPLE = tree(2, tree(1), tree(3))
 
 
 def some_structures():

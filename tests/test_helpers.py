@@ -3,7 +3,7 @@
 import unittest
 from math import gcd
 
-from speciesmill.helpers import are_bounds, divisors, is_whole, moebius, more_than_one, totient
+from speciesmill.helpers import are_bounds, divisors, greatest, is_whole, moebius, more_than_one, totient, turns_of
 
 
 class Helpers(unittest.TestCase):
@@ -19,6 +19,18 @@ class Helpers(unittest.TestCase):
         self.assertFalse(are_bounds("ring", 0, None))
         self.assertTrue(more_than_one(None))
         self.assertEqual([more_than_one(most) for most in range(4)], [False, False, True, True])
+
+    def test_the_greatest_number_that_fits(self):
+        for low in range(4):
+            for high in range(low, 9):
+                for last in range(low, high + 1):
+                    self.assertEqual(greatest(low, high, lambda number: number <= last), last)
+        self.assertEqual(greatest(0, 10**40, lambda number: number * number <= 10**60), 10**30)
+
+    def test_turns(self):
+        self.assertEqual(turns_of((1, 2, 3)), [(1, 2, 3), (2, 3, 1), (3, 1, 2)])
+        self.assertEqual(turns_of((5, 5)), [(5, 5), (5, 5)])
+        self.assertEqual(turns_of(()), [])
 
     def test_divisors(self):
         for number in range(1, 61):

@@ -3,6 +3,7 @@
 import unittest
 
 import brute
+from samples import ATOM, KINDS, ONE, TWO, WORDS, a, numbers, tree
 from speciesmill.counts import labelled_counts, unlabelled_counts
 from speciesmill.erase import erased, on_labels
 from speciesmill.errors import BadCounts, BadLabels, BadStructure, NoSuchName, NotFounded, TooGreat, TooMany
@@ -10,36 +11,8 @@ from speciesmill.listing import labelled_list, labelled_on, next_one, unlabelled
 from speciesmill.spec import Spec, known
 from speciesmill.symmetry import labellings
 
-ONE, ATOM = ("one",), ("atom",)
-TWO = ("or", ATOM, ATOM)
 PLAIN = Spec({"A": ATOM})
 ROOTED = known("rooted")
-WORDS = ("words", "trees", "rooted", "binary", "partitions", "permutations", "necklaces", "compositions", "maps")
-# Each kind of expression, also with bounds and with members without atoms.
-KINDS = [
-    ("none",), ONE, ATOM, ("or", ONE, ATOM), ("or", ATOM, ("and", ATOM, ATOM)), ("and", ONE, ATOM), ("and", ("none",), ATOM),
-    ("and", ("set", TWO, 0, None), ("row", ATOM, 0, 2)), ("and", ("or", ONE, TWO), ("or", TWO, ONE)),
-    ("row", TWO, 0, None), ("row", ATOM, 0, 0), ("row", ("or", ONE, TWO), 0, 1), ("row", ("or", ONE, TWO), 1, 1),
-    ("row", ("set", ATOM, 1, None), 2, 3), ("row", ("ring", TWO, 1, None), 2, None), ("row", TWO, 2, 3),
-    ("set", TWO, 0, None), ("set", ATOM, 0, 0), ("set", ("or", ONE, TWO), 0, 1), ("set", ("or", ONE, TWO), 1, 1),
-    ("set", ("row", TWO, 1, None), 0, None), ("set", ("ring", ATOM, 1, None), 2, 3), ("set", ("row", ATOM, 1, 3), 2, None),
-    ("ring", TWO, 1, None), ("ring", ("or", ONE, TWO), 1, 1), ("ring", ("row", TWO, 1, None), 2, 3),
-    ("ring", ("set", ATOM, 1, None), 1, None), ("ring", ("or", TWO, ("and", ATOM, TWO)), 2, None),
-    ("set", ("set", ("set", ATOM, 1, None), 1, None), 1, None), ("ring", ("ring", ATOM, 1, None), 1, None),
-]
-
-
-def a(label):
-    return ("atom", label)
-
-
-def tree(label, *branches):
-    """A tree of "rooted"; without a label if it is None."""
-    return ("and", ATOM if label is None else a(label), ("set", branches))
-
-
-def numbers(many):
-    return tuple(range(1, many + 1))
 
 
 def both(spec, expression, labels):

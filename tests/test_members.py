@@ -5,11 +5,10 @@ import math
 import random
 import unittest
 
+from samples import WRONG
 from speciesmill.errors import BadCounts, BadPlace
 from speciesmill.members import sets_from
 from speciesmill.series import by_members
-
-WRONG = (-1, True, False, None, "1", b"1", 1.0, (1,), [1], {})
 
 
 def places(counts):

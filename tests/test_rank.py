@@ -5,6 +5,7 @@ import math
 import unittest
 
 import brute
+from samples import ATOM, EXAMPLE, KINDS, ONE, TWO, WORDS, WRONG, a, numbers, tree
 from speciesmill.counts import counts_of, labelled_counts, unlabelled_counts
 from speciesmill.erase import erased
 from speciesmill.errors import BadCounts, BadIndex, BadLabels, BadStructure, NoSuchName, NotFounded, TooGreat
@@ -14,23 +15,8 @@ from speciesmill.spec import Spec, known
 from speciesmill.structure import is_structure, key_of, labels_of, size_of
 from speciesmill.subsets import subset_index
 
-ONE, ATOM = ("one",), ("atom",)
-TWO = ("or", ATOM, ATOM)
 PLAIN = Spec({"A": ATOM})
 ROOTED = known("rooted")
-WORDS = ("words", "trees", "rooted", "binary", "partitions", "permutations", "necklaces", "compositions", "maps")
-WRONG = (-1, True, False, None, "1", b"1", 1.0, (1,), [1], {})
-KINDS = [
-    ("none",), ONE, ATOM, ("or", ONE, ATOM), ("or", ATOM, ("and", ATOM, ATOM)), ("and", ONE, ATOM),
-    ("and", ("set", TWO, 0, None), ("row", ATOM, 0, 2)), ("and", ("or", ONE, TWO), ("or", TWO, ONE)),
-    ("row", TWO, 0, None), ("row", ATOM, 0, 0), ("row", ("or", ONE, TWO), 0, 1), ("row", ("or", ONE, TWO), 1, 1),
-    ("row", ("set", ATOM, 1, None), 2, 3), ("row", ("ring", TWO, 1, None), 2, None), ("row", TWO, 2, 3),
-    ("set", TWO, 0, None), ("set", ATOM, 0, 0), ("set", ("or", ONE, TWO), 0, 1), ("set", ("or", ONE, TWO), 1, 1),
-    ("set", ("row", TWO, 1, None), 0, None), ("set", ("ring", ATOM, 1, None), 2, 3), ("set", ("row", ATOM, 1, 3), 2, None),
-    ("ring", TWO, 1, None), ("ring", ("or", ONE, TWO), 1, 1), ("ring", ("row", TWO, 1, None), 2, 3),
-    ("ring", ("set", ATOM, 1, None), 1, None), ("ring", ("or", TWO, ("and", ATOM, TWO)), 2, None),
-    ("set", ("set", ("set", ATOM, 1, None), 1, None), 1, None), ("ring", ("ring", ATOM, 1, None), 1, None),
-]
 # Rows, sets and rings of many members, also of members of which there are very many.
 CROWDS = [
     (word, member, least, most)
@@ -42,22 +28,6 @@ CROWD = Spec({
     "W": ("and", ("or", TWO, ("or", TWO, TWO)), ("row", ("or", TWO, ("or", TWO, TWO)), 0, None)),
     "T": ("and", ATOM, ("set", ("name", "T"), 0, None)),
 })
-
-
-def a(label):
-    return ("atom", label)
-
-
-def tree(label, *branches):
-    """A tree of "rooted"; without a label if it is None."""
-    return ("and", ATOM if label is None else a(label), ("set", branches))
-
-
-def numbers(many):
-    return tuple(range(1, many + 1))
-
-
-EXAMPLE = tree(2, tree(1), tree(3))
 
 
 class AgainstLists(unittest.TestCase):

@@ -4,10 +4,9 @@ import itertools
 import math
 import unittest
 
+from samples import WRONG
 from speciesmill.errors import BadIndex
 from speciesmill.subsets import shares, subset_at, subset_index
-
-WRONG = (-1, True, False, None, "1", b"1", 1.0, (1,), [1], {})
 
 
 class Subsets(unittest.TestCase):

@@ -5,28 +5,16 @@ import math
 import unittest
 
 import brute
+from samples import ATOM, EXAMPLE, ONE, a, tree
 from speciesmill.erase import erased, labelled_from, renamed
 from speciesmill.errors import TooGreat
 from speciesmill.spec import known
 from speciesmill.structure import is_standard, key_of
 from speciesmill.symmetry import all_labellings, labellings, symmetries
 
-ONE, ATOM = ("one",), ("atom",)
 LEFT, RIGHT = ("left", ATOM), ("right", ATOM)
 PAIR = ("row", (ATOM, ATOM))
 LEAF = ("and", ATOM, ("set", ()))
-
-
-def a(label):
-    return ("atom", label)
-
-
-def tree(label, *branches):
-    """A tree of "rooted"; without a label if it is None."""
-    return ("and", ATOM if label is None else a(label), ("set", branches))
-
-
-EXAMPLE = tree(2, tree(1), tree(3))
 # Each with the number of its symmetries.
 SOME = [
     (ONE, 1), (ATOM, 1), (LEFT, 1), (("right", ("set", (ATOM, ATOM))), 2), (("and", ATOM, ATOM), 1), (PAIR, 1),

@@ -4,11 +4,10 @@ import itertools
 import random
 import unittest
 
+from samples import WRONG
 from speciesmill.errors import BadCounts, BadPlace
 from speciesmill.series import by_members
 from speciesmill.turns import rings_before, turns_from
-
-WRONG = (-1, True, False, None, "1", b"1", 1.0, (1,), [1], {})
 
 
 def places(counts):
