@@ -103,31 +103,37 @@ class Turns:
         if spare < 0:
             return 0
         reader = Reader(row)
-        runs = self.runs(reader, spare)
-        chains = chains_of(runs, spare)
-        total = 0
-        for length in range(1, len(row) + 1):
-            # The row may begin with each place of its first run.
-            total += length * product_item(runs[length], chains[len(row) - length], spare)
+        width = self.width(len(row), size)
+        runs = self.runs(reader, spare, width)
+        chains = chains_of(runs, width * (spare + 1))
+        # The row may begin with each place of its first run.
+        ways = sum([length * runs[length] * chains[len(row) - length] for length in range(1, len(row) + 1)])
+        total = digit(ways, spare, width)
         for state in range(len(row) + 1):
             if reader.after(state, len(row)) == (state, size):
                 total += 1
         return total
 
-    def runs(self, reader, spare):
+    def width(self, members, size):
+        """How many bits each number of rows of up to so many members and such a size has at most."""
+        return max([max(row[:size + 1]) for row in self.row_counts[:members + 1]]).bit_length()
+
+    def runs(self, reader, spare, width):
         """For each number of places the counts of the runs of so many places, from the state 0.
 
         Each place has the size 1 at least. Therefore it is told how many there are of each size beyond the number of
-        their places, up to as much as there is to spare.
+        their places, up to as much as there is to spare. The counts are the digits of one number, each of so many
+        bits: the digits of a sum or product of such numbers are the counts of what is one or the other, or both.
         """
-        runs = [[0] * (spare + 1)]
+        runs = [0]
         state = 0
         skipped = 0
         for _ in reader.row:
             least, index = reader.places[state]
-            run = [0] * (spare + 1)
+            run = 0
             for beyond in range(least - 1, spare - skipped + 1):
-                run[beyond + skipped] = self.counts[beyond + 1] - (index + 1 if beyond + 1 == least else 0)
+                many = self.counts[beyond + 1] - (index + 1 if beyond + 1 == least else 0)
+                run += many << (width * (beyond + skipped))
             runs.append(run)
             skipped += least - 1
             state = reader.states[state]
@@ -183,15 +189,16 @@ class Turns:
         return self.rings_before((*begin, *first_places), size)
 
 
-def chains_of(runs, spare):
+def chains_of(runs, bits):
     """For each number of places but the greatest the counts of the rows of runs, told as those of the runs are."""
-    chains = [[1] + [0] * spare]
+    chains = [1]
     for many in range(1, len(runs) - 1):
-        parts = [(runs[length], chains[many - length]) for length in range(1, many + 1)]
-        chains.append([sum([product_item(run, rest, at) for run, rest in parts]) for at in range(spare + 1)])
+        chain = sum([runs[length] * chains[many - length] for length in range(1, many + 1)])
+        # Rows that are too great are left out, lest the numbers grow.
+        chains.append(chain & ((1 << bits) - 1))
     return chains
 
 
-def product_item(first, second, size):
-    """The item of a size in the product of two counts."""
-    return sum([first[at] * second[size - at] for at in range(size + 1) if first[at] > 0])
+def digit(number, at, width):
+    """The digit of a number at a place, from 0 on, if the digits have so many bits."""
+    return (number >> (width * at)) & ((1 << width) - 1)
