@@ -32,6 +32,14 @@ def greatest(low, high, fits):
     return low
 
 
+def power(base, times):
+    """The product of so many equal numbers."""
+    total = 1
+    for _ in range(times):
+        total = total * base
+    return total
+
+
 def turns_of(row):
     """A tuple read from each of its members around."""
     return [row[at:] + row[:at] for at in range(len(row))]

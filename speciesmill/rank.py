@@ -4,6 +4,7 @@ from speciesmill.checks import check_labels, check_members, check_names, check_s
 from speciesmill.errors import BadIndex, BadStructure, TooGreat
 from speciesmill.helpers import is_whole
 from speciesmill.ranker import Ranker
+from speciesmill.sharing import all_atoms
 from speciesmill.spec import used
 from speciesmill.structure import is_structure, size_of
 
@@ -15,7 +16,7 @@ def structure_at(spec, name, size, index, labelled):
     """The standard or unlabelled structure of a name and a size that has an index."""
     check_names(spec, [name])
     check_size(size, GREATEST_SIZE)
-    return _at(Ranker(spec, ("name", name), size, labelled), _atoms(size, labelled), size, index)
+    return _at(Ranker(spec, ("name", name), size, labelled), all_atoms(size, labelled), size, index)
 
 
 def window(spec, name, size, first, many, labelled):
@@ -28,7 +29,7 @@ def window(spec, name, size, first, many, labelled):
         raise BadIndex(f"a window is for 0 to {WIDEST_WINDOW} structures")
     ranker = Ranker(spec, ("name", name), size, labelled)
     behind = min(first + many, ranker.many(size))
-    return [ranker.structure_at(_atoms(size, labelled), index) for index in range(first, behind)]
+    return [ranker.structure_at(all_atoms(size, labelled), index) for index in range(first, behind)]
 
 
 def labelled_at(spec, expression, labels, index):
@@ -68,11 +69,6 @@ def _check(spec, expression):
     """Raises what `counts_of` raises for a specification and an expression."""
     check_names(spec, used(expression))
     check_members(spec, expression)
-
-
-def _atoms(size, labelled):
-    """The atoms of the structures of a size, as a ranker tells them."""
-    return tuple(range(1, size + 1)) if labelled else size
 
 
 def _at(ranker, labels, size, index):

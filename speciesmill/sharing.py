@@ -73,3 +73,8 @@ class SizeSharing:
 def sharing_of(labelled):
     """The way in which the atoms of labelled or unlabelled structures are shared."""
     return LabelSharing() if labelled else SizeSharing()
+
+
+def all_atoms(size, labelled):
+    """The atoms of the standard structures of a size, or of the unlabelled ones."""
+    return tuple(range(1, size + 1)) if labelled else size

@@ -199,3 +199,84 @@ def random_specs(seed, many, levels=3):
         if fault(spec) is None:
             found.append(spec)
     return found
+
+
+def moved(structure, images):
+    """The structure to which a permutation of 1, 2 and so on, told by its images, moves a labelled one."""
+    word = structure[0]
+    if word == "one":
+        return structure
+    if word == "atom":
+        return ("atom", images[structure[1] - 1])
+    if word in MANY:
+        return plain_form((word, tuple(moved(member, images) for member in structure[1])))
+    return (word,) + tuple(moved(part, images) for part in structure[1:])
+
+
+def permutations(size):
+    return list(itertools.permutations(range(1, size + 1)))
+
+
+def kept(structures, images):
+    """How many of some structures a permutation moves to themselves."""
+    return sum(1 for structure in structures if moved(structure, images) == structure)
+
+
+def cycle_lengths(images):
+    """The lengths of the cycles of a permutation, the greatest first."""
+    lengths = []
+    left = set(range(1, len(images) + 1))
+    while left:
+        start = min(left)
+        number, length = start, 0
+        while number in left:
+            left.remove(number)
+            number = images[number - 1]
+            length += 1
+        lengths.append(length)
+    return tuple(sorted(lengths, reverse=True))
+
+
+def coloured(spec, expression, size, colours):
+    """For each tuple of the numbers of atoms of each colour, the number of unlabelled structures with such colours."""
+    structures = all_on(spec, expression, tuple(range(1, size + 1)))
+    moves = [(images, {structure: moved(structure, images) for structure in structures}) for images in permutations(size)]
+    found = {}
+    seen = set()
+    for structure in structures:
+        for paint in itertools.product(range(colours), repeat=size):
+            if (structure, paint) in seen:
+                continue
+            contents = tuple(paint.count(colour) for colour in range(colours))
+            found[contents] = found.get(contents, 0) + 1
+            for images, move in moves:
+                # The atom with the label k comes to bear the label images[k - 1], and keeps its colour.
+                repaint = [0] * size
+                for at, image in enumerate(images):
+                    repaint[image - 1] = paint[at]
+                seen.add((move[structure], tuple(repaint)))
+    return found
+
+
+def product_of(first, second):
+    """The product of two polynomials, by hand; it does not end with 0."""
+    found = [0] * (len(first) + len(second))
+    for at, one in enumerate(first):
+        for to, other in enumerate(second):
+            found[at + to] += one * other
+    while found and found[-1] == 0:
+        found.pop()
+    return tuple(found)
+
+
+def series_of(top, bottom, count):
+    """The items of a division of polynomials, by hand: each time so much is taken away that the next one is 0."""
+    rest = list(top) + [0] * (count + len(bottom))
+    found = []
+    for at in range(count):
+        item = rest[at] // bottom[0]
+        found.append(item)
+        for to, other in enumerate(bottom):
+            rest[at + to] -= item * other
+        assert rest[at] == 0
+    return found

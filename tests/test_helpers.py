@@ -3,7 +3,7 @@
 import unittest
 from math import gcd
 
-from speciesmill.helpers import are_bounds, divisors, greatest, is_whole, moebius, more_than_one, totient, turns_of
+from speciesmill.helpers import are_bounds, divisors, greatest, is_whole, moebius, more_than_one, power, totient, turns_of
 
 
 class Helpers(unittest.TestCase):
@@ -26,6 +26,9 @@ class Helpers(unittest.TestCase):
                 for last in range(low, high + 1):
                     self.assertEqual(greatest(low, high, lambda number: number <= last), last)
         self.assertEqual(greatest(0, 10**40, lambda number: number * number <= 10**60), 10**30)
+
+    def test_powers(self):
+        self.assertEqual([power(base, times) for base in (0, 1, 3, -2) for times in (0, 1, 4)], [1, 0, 0, 1, 1, 1, 1, 3, 81, 1, -2, 16])
 
     def test_turns(self):
         self.assertEqual(turns_of((1, 2, 3)), [(1, 2, 3), (2, 3, 1), (3, 1, 2)])
