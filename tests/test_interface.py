@@ -41,6 +41,23 @@ FUNCTIONS = {
         "unlabelled_at": "spec expression size index", "index_in": "spec expression structure",
     },
     "subsets": {"subset_at": "size members index", "subset_index": "size subset"},
+    "draw": {
+        "index_by_digits": "count digits", "telling_rows": "count most", "draw": "spec name size digits labelled",
+        "draws": "spec name size many digits labelled",
+    },
+    "shapes": {"shapes": "n", "shape_of": "images", "weight": "shape"},
+    "cycleindex": {"kept": "spec name shape", "cycle_sum": "spec name n"},
+    "burnside": {"orbits": "spec name n", "coloured": "spec name n colours", "inventory": "spec name contents"},
+    "changed": {"marked": "spec", "replaced": "spec expression"},
+    "quotient": {
+        "quotient_of": "top bottom", "added": "first second", "taken": "first second", "multiplied": "first second",
+        "terms": "quotient count", "rule": "quotient",
+    },
+    "regular": {
+        "is_regular": "spec", "alike": "first name second other", "quotient": "spec name",
+        "parting_size": "first name second other",
+    },
+    "carry": {"carried": "first name second other structure"},
 }
 METHODS = {"__init__": "self equations", "names": "self", "expression": "self name"}
 
@@ -52,6 +69,7 @@ class Interface(unittest.TestCase):
             for name, arguments in functions.items():
                 function = getattr(module, name)
                 self.assertEqual(function.__module__, "speciesmill." + file)
+                self.assertTrue(inspect.isfunction(function), name)
                 self.assertEqual(list(inspect.signature(function).parameters), arguments.split(), name)
 
     def test_the_methods_of_a_specification(self):
